@@ -157,11 +157,23 @@ func edits(texts ...string) []api.Edit {
 // refused: an error is the plain one of a code and a place, wrapped as "delta", and nothing is told beside it.
 func refused(t *testing.T, err error, code api.Code, at int, told bool) {
 	t.Helper()
-	want := fmt.Sprintf("delta: code %d at %d", int(code), at)
+	wrapped(t, err, code, at, told, "delta")
+}
+
+// below: an error is layer 15's of a code and a place, wrapped once more, and nothing is told beside it.
+func below(t *testing.T, err error, code api.Code, at int, told bool) {
+	t.Helper()
+	wrapped(t, err, code, at, told, "delta", "archive")
+}
+
+// wrapped: an error is the plain one of a code and a place, wrapped by these from without, and nothing is told beside it.
+func wrapped(t *testing.T, err error, code api.Code, at int, told bool, by ...string) {
+	t.Helper()
+	want := fmt.Sprintf("%s: code %d at %d", strings.Join(by, ": "), int(code), at)
 	if got := fault.Text(err); got != want {
 		t.Fatalf("%s; it must be %s", got, want)
 	}
-	if fault.Code(err) != code || fault.At(err) != at || fault.Depth(err) != 1 || !errors.Is(err, fault.New(code, 0)) || told {
+	if fault.Code(err) != code || fault.At(err) != at || fault.Depth(err) != len(by) || !errors.Is(err, fault.New(code, 0)) || told {
 		t.Fatalf("%s: code %d, place %d, wrapped %d times, something beside it: %v", want, fault.Code(err), fault.At(err), fault.Depth(err), told)
 	}
 }
@@ -616,17 +628,17 @@ func TestP17_3Extract(t *testing.T) {
 	}
 }
 
-// Versions that there aren't.
+// Versions that there aren't: layer 15's error, wrapped once more.
 func TestP17_3NoVersion(t *testing.T) {
 	a := of(t, company, staff...)
 	for _, v := range []int{0, -1, 7, 8, 200, 201, math.MaxInt, math.MinInt} {
 		got, err := delta.Extract(spec(company), a, v)
-		refused(t, err, api.NoVersion, v, got != nil)
+		below(t, err, api.NoVersion, v, got != nil)
 	}
 	for _, a := range []api.Archive{{}, {Last: -1}, {Last: math.MinInt}} {
 		for _, v := range []int{0, 1, -1, math.MaxInt, math.MinInt} {
 			got, err := delta.Extract(spec(company), a, v)
-			refused(t, err, api.NoVersion, v, got != nil)
+			below(t, err, api.NoVersion, v, got != nil)
 		}
 	}
 }
@@ -692,9 +704,7 @@ func TestP17_3MostVersions(t *testing.T) {
 	}
 	for _, list := range [][]string{nil, {"~ db: <x/>"}, {"+ db e{1}: <e id='1'/>"}} {
 		got, err := delta.Replay(rules, a, edits(list...))
-		if fault.Text(err) != "delta: archive: code 31 at 200" || !errors.Is(err, fault.New(api.MostVersions, 0)) || !reflect.DeepEqual(got, api.Archive{}) {
-			t.Errorf("%q: %v, %s", list, got, fault.Text(err))
-		}
+		below(t, err, api.MostVersions, 200, !reflect.DeepEqual(got, api.Archive{}))
 	}
 	got, err := delta.Replay(rules, a, edits("~ db: <x/>", "- db"))
 	refused(t, err, api.BadDelta, 1, !reflect.DeepEqual(got, api.Archive{}))
